@@ -1150,3 +1150,27 @@ func TestSameOfItself(t *testing.T) {
 		before = g
 	}
 }
+
+// Operands, which chapter 10 does not list (R8)
+
+func TestOperands(t *testing.T) {
+	for _, op := range append(numbers(), 1<<8+api.Add, 1<<32+api.Add, -1<<32+api.Add) {
+		want, wantImm := 0, false
+		if below(op, 25) && op != 18 && op != 19 {
+			kinds := usesOf(op)
+			want, wantImm = 3-strings.Count(kinds, "-"), strings.Contains(kinds, "#")
+		}
+		if got, imm := mach.Operands(op); got != want || imm != wantImm {
+			t.Errorf("Operands(%d) returned %d, %t, not %d, %t", op, got, imm, want, wantImm)
+		}
+	}
+}
+
+// The operands that an operation uses are the first ones.
+func TestFirstOperands(t *testing.T) {
+	for op, kinds := range uses {
+		if strings.Contains(strings.TrimRight(kinds, "-#"), "-") {
+			t.Errorf("the operands of operation %d are %s", op, kinds)
+		}
+	}
+}

@@ -25,6 +25,21 @@ func exists(op int) bool {
 	return within(op, api.Ops) && op != api.Arg && op != api.Param
 }
 
+// Operands returns how many of the operands A, B and C an operation of the target language uses, which are the first ones, and whether it uses Imm. Other operations use none.
+func Operands(op int) (int, bool) {
+	if !exists(op) {
+		return 0, false
+	}
+	o := operandsOf(op)
+	count := 0
+	for _, k := range []kind{o.a, o.b, o.c} {
+		if k != unused {
+			count++
+		}
+	}
+	return count, o.imm
+}
+
 // operandsOf returns the operands of an operation that exists.
 func operandsOf(op int) operands {
 	switch op {
