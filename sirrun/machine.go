@@ -16,7 +16,7 @@ type activation struct {
 
 // machine runs the functions; the end of stack is the activation that runs.
 type machine struct {
-	core
+	Core
 	funcs []api.Func
 	stack []activation
 	depth int
@@ -37,24 +37,25 @@ func (m *machine) enter(function int) {
 func (m *machine) leave() {
 	m.stack = m.stack[:len(m.stack)-1]
 	if len(m.stack) == 0 {
-		m.outcome.Result = m.regs[0]
-		m.end(api.Returned)
+		m.Return()
 	}
 }
 
 // step executes the next instruction of the last activation.
 func (m *machine) step() {
-	m.outcome.Steps++
+	m.Outcome.Steps++
 	a := m.last()
 	x := m.funcs[a.function].Code[a.next]
-	a.next++
+	a.next = m.Next(x, a.next)
 	switch x.Op {
 	case api.Load, api.Store, api.Move, api.Arg, api.Param:
 		m.access(x)
-	case api.Jump, api.Branch, api.Call, api.Return, api.Trap:
-		m.transfer(x)
+	case api.Call:
+		m.enter(x.A)
+	case api.Return:
+		m.leave()
 	default:
-		m.compute(x)
+		m.Execute(x)
 	}
 }
 
@@ -63,17 +64,17 @@ func (m *machine) access(x api.Instr) {
 	a := m.last()
 	switch x.Op {
 	case api.Load:
-		m.regs[x.A] = m.defined(a.slots, x.B)
+		m.Set(x.A, m.defined(a.slots, x.B))
 	case api.Store:
-		a.slots[x.A] = value.Truncate(m.regs[x.B], m.funcs[a.function].Slots[x.A].Size)
+		a.slots[x.A] = value.Truncate(m.Register(x.B), m.funcs[a.function].Slots[x.A].Size)
 	case api.Move:
 		a.slots[x.A] = m.defined(a.slots, x.B)
 	case api.Arg:
-		a.args[x.A] = m.regs[x.B]
+		a.args[x.A] = m.Register(x.B)
 	case api.Param:
 		// There is a caller: function 0 has no parameters.
 		caller := m.stack[len(m.stack)-2]
-		m.regs[x.A] = m.defined(caller.args, x.B)
+		m.Set(x.A, m.defined(caller.args, x.B))
 	}
 }
 
@@ -81,26 +82,7 @@ func (m *machine) access(x api.Instr) {
 func (m *machine) defined(c cells, n int) api.Value {
 	v, ok := c[n]
 	if !ok {
-		m.end(api.Undef)
+		m.End(api.Undef)
 	}
 	return v
-}
-
-// transfer executes an instruction that decides where control continues.
-func (m *machine) transfer(x api.Instr) {
-	switch x.Op {
-	case api.Jump:
-		m.last().next = x.A
-	case api.Branch:
-		if m.regs[x.A].Lo != 0 {
-			m.last().next = x.B
-		}
-	case api.Call:
-		m.enter(x.A)
-	case api.Return:
-		m.leave()
-	case api.Trap:
-		m.outcome.Code = x.Imm
-		m.end(api.Trapped)
-	}
 }

@@ -494,6 +494,40 @@ func TestDeepChain(t *testing.T) {
 	}
 }
 
+// The core of both machines. What it does with right instructions the runs show.
+
+func TestCoreOfWrongInstructions(t *testing.T) {
+	far := []int{math.MinInt, -1 << 32, -1, 8, 9, 1 << 32, math.MaxInt}
+	for op := -1; op <= api.Ops; op++ {
+		for _, n := range far {
+			for _, x := range []api.Instr{{Op: op, A: n}, {Op: op, B: n}, {Op: op, C: n}, {Op: op, A: n, B: n, C: n, Imm: 5}} {
+				var c sirrun.Core
+				c.Set(0, api.Value{Lo: 1, Hi: 2})
+				c.Execute(x)
+				c.Next(x, n)
+			}
+		}
+	}
+	var c sirrun.Core
+	for _, n := range far {
+		c.Set(n, api.Value{Lo: 1})
+		if v := c.Register(n); v != (api.Value{}) {
+			t.Errorf("register %d is %v", n, v)
+		}
+	}
+	for n := range api.Registers {
+		if v := c.Register(n); v != (api.Value{}) {
+			t.Errorf("register %d became %v", n, v)
+		}
+		c.Set(n, api.Value{Lo: 1, Hi: uint64(n)})
+	}
+	for n := range api.Registers {
+		if v := c.Register(n); v != (api.Value{Lo: 1, Hi: uint64(n)}) {
+			t.Errorf("register %d is %v", n, v)
+		}
+	}
+}
+
 // The examples of the document
 
 func TestExamples(t *testing.T) {

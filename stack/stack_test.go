@@ -201,18 +201,22 @@ func TestPushAndPop(t *testing.T) {
 	})
 }
 
-// push compares Push with the model, and returns what it returns.
+// push compares Push, the function and the method, with the model, and returns what the function returns.
 func push(t *testing.T, s api.Stack, size int) api.Stack {
 	t.Helper()
 	m := modelOf(s)
-	return compare(t, s, m.push(size), &m, func(s api.Stack) (api.Stack, api.Errno) { return stack.Push(s, size) })
+	want := m.push(size)
+	inPlace(t, s, want, &m, func(y *stack.Memory) api.Errno { return y.Push(size) })
+	return compare(t, s, want, &m, func(s api.Stack) (api.Stack, api.Errno) { return stack.Push(s, size) })
 }
 
-// pop compares Pop with the model, and returns what it returns.
+// pop compares Pop, the function and the method, with the model, and returns what the function returns.
 func pop(t *testing.T, s api.Stack, size int) api.Stack {
 	t.Helper()
 	m := modelOf(s)
-	return compare(t, s, m.pop(size), &m, func(s api.Stack) (api.Stack, api.Errno) { return stack.Pop(s, size) })
+	want := m.pop(size)
+	inPlace(t, s, want, &m, func(y *stack.Memory) api.Errno { return y.Pop(size) })
+	return compare(t, s, want, &m, func(s api.Stack) (api.Stack, api.Errno) { return stack.Pop(s, size) })
 }
 
 // compare calls f with s, returns the stack that f returns, and expects that it is m, and the error the wanted one.
@@ -224,6 +228,21 @@ func compare(t *testing.T, s api.Stack, want api.Errno, m *model, f func(s api.S
 		t.Fatalf("%v became %v with the error %d, not %v with the error %d", s, r, e, m.stack(), want)
 	}
 	return r
+}
+
+// inPlace calls a method with a memory of a copy of s, and expects that this copy becomes m, without its spare capacity, and that the error is the wanted one.
+func inPlace(t *testing.T, s api.Stack, want api.Errno, m *model, method func(y *stack.Memory) api.Errno) {
+	t.Helper()
+	r := roomy(s)
+	y := stack.Memory{Stack: r}
+	e := method(&y)
+	r.SP = y.SP
+	if e != want || !same(r, m.stack()) || !same(y.Stack, r) {
+		t.Fatalf("in place %v became %v with the error %d, not %v with the error %d", s, r, e, m.stack(), want)
+	}
+	if fresh := roomy(r); !same(whole(r), whole(fresh)) {
+		t.Fatalf("a method changed the spare capacity of %v", s)
+	}
 }
 
 func TestLoad(t *testing.T) {
@@ -262,11 +281,13 @@ func TestStore(t *testing.T) {
 	})
 }
 
-// store compares Store with the model, and returns what it returns.
+// store compares Store, the function and the method, with the model, and returns what the function returns.
 func store(t *testing.T, s api.Stack, off, size int, v api.Value) api.Stack {
 	t.Helper()
 	m := modelOf(s)
-	return compare(t, s, m.store(off, size, v), &m, func(s api.Stack) (api.Stack, api.Errno) { return stack.Store(s, off, size, v) })
+	want := m.store(off, size, v)
+	inPlace(t, s, want, &m, func(y *stack.Memory) api.Errno { return y.Store(off, size, v) })
+	return compare(t, s, want, &m, func(s api.Stack) (api.Stack, api.Errno) { return stack.Store(s, off, size, v) })
 }
 
 func TestMove(t *testing.T) {
@@ -310,11 +331,18 @@ func TestMoveOfWrongNumbers(t *testing.T) {
 	}
 }
 
-// move compares Move with the model, and returns what it returns.
+// move compares Move, the function and the method, with the model, and returns what the function returns.
 func move(t *testing.T, s api.Stack, to, from, size int) api.Stack {
 	t.Helper()
 	m := modelOf(s)
 	defined, want := m.move(to, from, size)
+	inPlace(t, s, want, &m, func(y *stack.Memory) api.Errno {
+		ok, e := y.Move(to, from, size)
+		if ok != defined {
+			t.Fatalf("in place Move(%v, %d, %d, %d) returned %v, not %v", s, to, from, size, ok, defined)
+		}
+		return e
+	})
 	var ok bool
 	r := compare(t, s, want, &m, func(s api.Stack) (r api.Stack, e api.Errno) { r, ok, e = stack.Move(s, to, from, size); return r, e })
 	if ok != defined {
@@ -396,9 +424,17 @@ func TestWrongStacks(t *testing.T) {
 	}
 }
 
-// callAll calls each function with s and n.
+// callAll calls each function and each method with s and n.
 func callAll(t *testing.T, s api.Stack, n int) {
 	before := whole(s)
+	y := stack.Memory{Stack: whole(s)}
+	y.Push(n)
+	y.Pop(n)
+	for _, size := range []int{1, 16, n} {
+		y.Store(n, size, api.Value{Lo: 1, Hi: 1})
+		y.Move(n, 0, size)
+		y.Move(0, n, size)
+	}
 	stack.Push(s, n)
 	stack.Pop(s, n)
 	for _, size := range []int{1, 16, n} {
